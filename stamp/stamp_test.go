@@ -329,6 +329,8 @@ func TestFloatEdges(t *testing.T) {
 		{1e-9, api.Stamp{Nano: 1}, true},
 		{9e-10, api.Stamp{}, true},
 		{-1, api.Stamp{Sec: -1}, true},
+		// The difference is a float64 too: from the exact one the product would be 782805920.
+		{-0.21719408, api.Stamp{Sec: -1, Nano: 782805919}, true},
 	} {
 		floatsAs(t, c.f, c.want, c.ok)
 	}
